@@ -200,3 +200,57 @@ def random_batches(seed, services, many):
     while len(found) < many:
         found.append([chance.choice(every) for _ in range(chance.randrange(1, 4))])
     return found[:many]
+
+
+def is_climb(states, plan, climb):
+    """What point [25] says of a climb of a plan, word by word."""
+    if len(climb) != len(plan) or any(c not in states for c in climb):
+        return False
+    if not part(climb[0], plan[0]) or not part(plan[-1], climb[-1]):
+        return False
+    for at in range(1, len(plan)):
+        if not part(climb[at - 1], climb[at]):
+            return False
+        if not part(minus(climb[at], climb[at - 1]), minus(plan[at], plan[at - 1])):
+            return False
+    return True
+
+
+def all_climbs(states, plan, keep_first=False, keep_last=False):
+    """All climbs of a plan, ascending, from going through everything that could be one."""
+    found = []
+    for climb in itertools.product(states, repeat=len(plan)):
+        if is_climb(states, plan, climb):
+            if (not keep_first or climb[0] == plan[0]) and (not keep_last or climb[-1] == plan[-1]):
+                found.append(climb)
+    return found
+
+
+def climb_ends(states, start, batches):
+    """For each end of a state the least number of changes of a climb to it, by going through all climbs."""
+    ends = {}
+    level = [(state,) for state in states if part(state, start)]
+    while level:
+        for climb in level:
+            ends.setdefault(climb[-1], len(climb) - 1)
+        level = [climb + (state,) for climb in level for state in states
+                 if proper(climb[-1], state) and fits(batches, minus(state, climb[-1]))]
+    return ends
+
+
+def tops(states, start, batches):
+    return greatest(list(climb_ends(states, start, batches)))
+
+
+def reached(states, start, batches, stops=False):
+    """The least numbers of changes (that stop something) to all states that are reached, put right until they stay."""
+    numbers = {start: 0}
+    while True:
+        before = dict(numbers)
+        for a in list(numbers):
+            for b in states:
+                if fits(batches, minus(b, a)):
+                    number = numbers[a] + (1 if not stops or not part(a, b) else 0)
+                    numbers[b] = min(numbers.get(b, number), number)
+        if numbers == before:
+            return numbers

@@ -40,7 +40,44 @@ INTERFACE = {
         "bad_joins(book, lot)", "least_bad_pair(book)", "locked_within(book, first, second)", "core(book, lot)",
         "hull(book, lot)",
     ),
+    "evidence": (
+        "verdict(book)", "is_steps(book, value)", "is_verdict(book, value)", "follow(book, rows, first, second)",
+    ),
+    "plans": (
+        "checked_batches(book, batches)", "checked_slots(book, slots)", "fits(batches, lot)",
+        "checked_plan(book, plan)", "plan_changes(book, plan)", "wrong_change(book, plan, batches=None)",
+        "wrong_slot(book, plan, slots)", "service_counts(book, plan)", "used_services(book, plan)",
+        "kept_services(book, plan)",
+    ),
+    "bending": (
+        "class Bent(book, plan, climb)", "lazy_plan(book, plan)", "tails(book, plan)", "bend(book, plan)",
+        "join_climb(book, plan)", "meet_climb(book, plan)",
+    ),
+    "searching": (
+        "find_climb(book, plan, *, keep_first=False, keep_last=False)",
+        "count_climbs(book, plan, *, keep_first=False, keep_last=False)",
+        "climb_layers(book, plan, *, keep_first=False, keep_last=False)",
+        "shows_no_climb(book, plan, layers, *, keep_first=False, keep_last=False)", "unbent_plan(book, batches)",
+    ),
+    "merging": ("merged_plan(bent)", "short_plan(bent)", "down_up(book, plan)", "up_down(book, plan)"),
+    "climbs": (
+        "tops(book, start, batches)", "climb_above(book, start, goal, batches)",
+        "climb_plan(book, start, goal, climb)",
+    ),
+    "reach": (
+        "distances(book, start, batches, *, stops=False)",
+        "shortest_plan(book, start, goal, batches, *, stops=False)",
+        "shows_unreached(book, start, goal, batches, value)",
+        "shows_far(book, start, goal, number, batches, value, *, stops=False)",
+    ),
+    "stairs": (
+        "beyond_tops(book, start, batches)", "reach_answer(book, start, goal, batches)",
+        "shows_outside(book, start, goal, batches, value)", "stairs(book, start, batches)",
+        "shows_steps(book, start, goal, batches, value)",
+    ),
 }
+
+PROPERTIES = {"bending": ("Bent.first_stop", "Bent.last_stop", "Bent.whole")}
 
 
 class InterfaceTest(unittest.TestCase):
@@ -50,6 +87,13 @@ class InterfaceTest(unittest.TestCase):
             for line in told:
                 with self.subTest(module=module, line=line):
                     self.check(found, line)
+
+    def test_properties(self):
+        for module, told in PROPERTIES.items():
+            found = importlib.import_module("stopsfirst." + module)
+            for line in told:
+                owner, _, name = line.partition(".")
+                self.assertIsInstance(vars(vars(found)[owner])[name], property)
 
     def check(self, module, line):
         is_class = line.startswith("class ")
