@@ -58,8 +58,8 @@ def is_locked(book, first, second):
 
 
 def is_locked_change(grid, a, b):
-    """An allowed A & B or A | B is asked about ahead, since it settles most changes at once."""
-    if a & ~b == 0 or grid.allowed[a & b] or grid.allowed[a | b]:
+    """Most changes are settled by A & B or A | B alone; if A is within B, A & B is A, so that it is allowed."""
+    if grid.allowed[a & b] or grid.allowed[a | b]:
         return False
     return between_masks(grid, a & b, a) == [a] and between_masks(grid, b, a | b) == [b]
 

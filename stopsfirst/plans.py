@@ -3,7 +3,7 @@
 from stopsfirst.basics import is_sequence
 from stopsfirst.errors import InvalidBatches, InvalidPlan
 from stopsfirst.grids import greatest_masks, joined, met, within_one
-from stopsfirst.lots import is_part
+from stopsfirst.lots import is_lot, is_part
 
 
 def checked_batches(book, batches):
@@ -43,9 +43,10 @@ def slot_masks(book, slots):
 
 
 def fits(batches, lot):
+    """Nothing is refused here: what is no batch is just nothing to fit into."""
     if batches is None or lot == ():
         return True
-    return any([is_part(lot, batch) for batch in batches])
+    return is_sequence(batches) and any([is_lot(batch) and is_part(lot, batch) for batch in batches])
 
 
 def mask_fits(batches, mask):

@@ -122,8 +122,6 @@ def read_cut(words):
 
 
 def read_feed(words):
-    if len(words) < 2:
-        return None
     sides = parted(words[2:], ":")
     if len(sides) != 2:
         return None

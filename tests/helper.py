@@ -1,13 +1,12 @@
 """What the tests share: rulebooks to ask about, and answers worked out from the document's words alone.
 
-Nothing here uses the package, except `made` and `raised`, which pass things on to it.
+Nothing here works out an answer with the package: it is used for its errors alone.
 """
 
 import itertools
 import random
 
 from stopsfirst import errors
-from stopsfirst.rulebooks import Rulebook
 
 # Values of wholly other kinds, none of which is a lot of the services a, b, c, d.
 ODD_VALUES = (
@@ -103,10 +102,6 @@ def rule_allows(rule, state):
 
 def allowed(services, rules):
     return [state for state in all_lots(services) if all(rule_allows(rule, state) for rule in rules)]
-
-
-def made(services, rules):
-    return Rulebook(services, rules)
 
 
 def table_of(services, states):
@@ -254,3 +249,22 @@ def reached(states, start, batches, stops=False):
                     numbers[b] = min(numbers.get(b, number), number)
         if numbers == before:
             return numbers
+
+
+def check_states_then_batches(test, ask, many):
+    """The errors of chapter 6, for a function of one or two states and batches.
+
+    The rulebook that it asks about has the services a, b and c, and a and b may not run together.
+    """
+    good = [lot("a")] * many
+    for odd in ODD_VALUES + (["a"], lot("ae"), Weird()):
+        test.assertEqual(raised(ask, *[odd] * many, 5), (errors.InvalidState, 0), repr(odd))
+        test.assertEqual(raised(ask, *good, [(), odd, 5]), (errors.InvalidBatches, 1), repr(odd))
+        if many == 2:
+            test.assertEqual(raised(ask, lot("ab"), odd, 5), (errors.InvalidState, 1), repr(odd))
+    test.assertEqual(raised(ask, *[lot("ab")] * many, 5), (errors.NotAllowed, 0))
+    if many == 2:
+        test.assertEqual(raised(ask, (), lot("ab"), 5), (errors.NotAllowed, 1))
+    for value in (True, False, 0, "", "ab", {}, {()}, object(), Weird()):
+        test.assertEqual(raised(ask, *good, value), (errors.InvalidBatches, 0), repr(value))
+    test.assertIsNone(raised(ask, *good, None))

@@ -105,6 +105,8 @@ class StepTableTest(unittest.TestCase):
                 for b in helper.all_lots(services):
                     if a not in states or b not in states or helper.part(a, b):
                         self.assertIs(is_steps(book, rows + ((a, b, a),)), False)
+                        if rows:
+                            self.assertIs(is_steps(book, rows[1:] + ((a, b, a),)), False)
 
     def test_no_table_where_a_change_is_locked(self):
         for services, rules in BOOKS:

@@ -77,6 +77,13 @@ class FitsTest(unittest.TestCase):
         self.assertIs(fits(lots("a bc"), lot("c")), True)
 
 
+    def test_nothing_is_refused(self):
+        for odd in NO_LOTS:
+            self.assertIn(fits([odd], lot("a")), (True, False), repr(odd))
+            self.assertIs(fits([odd, lot("ab")], lot("a")), True, repr(odd))
+            self.assertIs(fits([odd], ()), True, repr(odd))
+
+
 class SlotsTest(unittest.TestCase):
     def test_checked_slots(self):
         every = helper.random_batches(84, "abcd", 40)

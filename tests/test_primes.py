@@ -161,6 +161,7 @@ class PaperTest(unittest.TestCase):
             ("state", lot("ac")), ("state", lot("abc")), ("state", ()), ("state", ["c"]), ("state", ("c", "c")),
             ("state", "c"), ("state", ("c", "b")), ("state", ("z",)), ("state", Weird()), ["state", lot("c")],
             ("prime", lot("c")), ("state", lot("c"), 0), (lot("c"), "state"), ("state", lot("cz")),
+            ("State", lot("c")), ("", lot("c")), (None, lot("c")), (b"state", lot("c")), (Weird(), lot("c")),
         ):
             self.assertIs(is_follow_paper(book, forbidden, value), False, repr(value))
 

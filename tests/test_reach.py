@@ -3,12 +3,11 @@
 import random
 import unittest
 
-from stopsfirst.errors import InvalidBatches, InvalidState, NotAllowed
 from stopsfirst.plans import checked_plan, plan_changes, wrong_change
 from stopsfirst.reach import distances, shortest_plan, shows_far, shows_unreached
 from stopsfirst.rulebooks import Rulebook
 from tests import helper
-from tests.helper import Weird, lot, lots, raised
+from tests.helper import Weird, lot, lots
 
 FREE = Rulebook(lot("ab"), [])
 CLASH = Rulebook(lot("abc"), [("imply", lot("ab"), ())])
@@ -86,6 +85,14 @@ class PlanTest(unittest.TestCase):
                     counted = [stopped for stopped, _ in plan_changes(book, plan) if stopped or not stops]
                     self.assertEqual(len(counted), numbers[goal])
         self.assertEqual(found, {True, False})
+
+    def test_fewer_changes_or_fewer_stops(self):
+        book = Rulebook(lot("abcde"), [("table", lot("abcde"), lots("a ab abd abcd bce"))])
+        batches = lots("ad bce")
+        self.assertEqual(shortest_plan(book, lot("a"), lot("abcd"), batches), lots("a bce abcd"))
+        self.assertEqual(shortest_plan(book, lot("a"), lot("abcd"), batches, stops=True), lots("a ab abd abcd"))
+        self.assertEqual(dict(distances(book, lot("a"), batches))[lot("abcd")], 2)
+        self.assertEqual(dict(distances(book, lot("a"), batches, stops=True))[lot("abcd")], 0)
 
     def test_by_hand(self):
         self.assertEqual(shortest_plan(CLASH, lot("a"), lot("a"), []), lots("a"))
@@ -235,18 +242,7 @@ class ErrorTest(unittest.TestCase):
 
     def test_states_then_batches(self):
         for many, ask in self.asks():
-            good = [lot("a")] * many
-            for odd in helper.ODD_VALUES + (["a"], lot("ae"), Weird()):
-                self.assertEqual(raised(ask, *[odd] * many, 5), (InvalidState, 0), repr(odd))
-                self.assertEqual(raised(ask, *good, [(), odd, 5]), (InvalidBatches, 1), repr(odd))
-                if many == 2:
-                    self.assertEqual(raised(ask, lot("ab"), odd, 5), (InvalidState, 1), repr(odd))
-            self.assertEqual(raised(ask, *[lot("ab")] * many, 5), (NotAllowed, 0))
-            if many == 2:
-                self.assertEqual(raised(ask, (), lot("ab"), 5), (NotAllowed, 1))
-            for value in (True, False, 0, "", "ab", {}, {()}, object(), Weird()):
-                self.assertEqual(raised(ask, *good, value), (InvalidBatches, 0), repr(value))
-            self.assertIsNone(raised(ask, *good, None))
+            helper.check_states_then_batches(self, ask, many)
 
     def test_stops_is_passed_by_keyword(self):
         self.assertRaises(TypeError, distances, FREE, (), None, True)

@@ -262,13 +262,25 @@ class UnbentTest(unittest.TestCase):
                 found.add((batches is None, told is None))
         self.assertEqual(len(found), 4)
 
+    def test_all_rulebooks_of_three_services(self):
+        lengths = set()
+        every = helper.all_lots("abc")
+        for chosen in range(1 << 8):
+            states = [state for k, state in enumerate(every) if chosen >> k & 1]
+            for batches in (lots("a b c"), lots("b c"), lots("ab c")):
+                told = self.check(lot("abc"), helper.table_of("abc", states), batches)
+                self.assertIs(told is not None, self.some_plan_has_no_climb(states, batches), (states, batches))
+                lengths.add(0 if told is None else len(set(told)))
+        self.assertLessEqual({0, 2, 3}, lengths)
+
     def test_more_than_two_states(self):
-        rules = [("table", lot("abc"), lots("a ab abc c"))]
-        plan = self.check(lot("abc"), rules, [lot("b"), lot("c")])
-        self.assertIsNotNone(plan)
-        rules = [("table", lot("abcd"), lots("- a ab c cd"))]
-        for batches in helper.random_batches(131, "abcd", 20):
-            self.check(lot("abcd"), rules, batches)
+        rules = helper.table_of("abc", lots("a ab b bc"))
+        plan = self.check(lot("abc"), rules, lots("b c"))
+        self.assertEqual(helper.all_climbs(lots("a ab b bc"), lots("a ab bc")), [])
+        self.assertGreaterEqual(len(set(plan)), 3)
+        states = lots("a ab abc b bc bcd")
+        plan = self.check(lot("abcd"), helper.table_of("abcd", states), lots("b c d"))
+        self.assertIs(plan is not None, self.some_plan_has_no_climb(states, lots("b c d")))
 
     def test_by_hand(self):
         self.assertEqual(unbent_plan(TORN, None), unbent_plan(book=TORN, batches=[lot("a"), lot("b")]))

@@ -288,18 +288,7 @@ class ErrorTest(unittest.TestCase):
 
     def test_states_then_batches(self):
         for many, ask in self.asks():
-            good = [lot("a")] * many
-            for odd in helper.ODD_VALUES + (["a"], lot("ae"), Weird()):
-                self.assertEqual(raised(ask, *[odd] * many, 5), (InvalidState, 0), repr(odd))
-                self.assertEqual(raised(ask, *good, [(), odd, 5]), (InvalidBatches, 1), repr(odd))
-                if many == 2:
-                    self.assertEqual(raised(ask, lot("ab"), odd, 5), (InvalidState, 1), repr(odd))
-            self.assertEqual(raised(ask, *[lot("ab")] * many, 5), (NotAllowed, 0))
-            if many == 2:
-                self.assertEqual(raised(ask, (), lot("ab"), 5), (NotAllowed, 1))
-            for value in (True, False, 0, "", "ab", {}, {()}, object(), Weird()):
-                self.assertEqual(raised(ask, *good, value), (InvalidBatches, 0), repr(value))
-            self.assertIsNone(raised(ask, *good, None))
+            helper.check_states_then_batches(self, ask, many)
 
     def test_not_bendable_comes_last(self):
         self.assertEqual(raised(reach_answer, TORN, None, None, None), (InvalidState, 0))

@@ -1,0 +1,170 @@
+"""[2]: what functions tell, and that neither they nor later changes to an argument change anything."""
+
+import copy
+import unittest
+
+from stopsfirst import (
+    bending, climbs, court, evidence, lots as lots_module, merging, pairs, plans, primes, reach, rulebooks, rules,
+    searching, stairs, texts,
+)
+from stopsfirst.bending import Bent
+from stopsfirst.rulebooks import Rulebook
+from tests.helper import lot, lots
+
+RULES = [["imply", ["b", "a"], []], ["imply", [], ["d", "c"]], ["cap", [["d", 1], ["c", 1]], 2]]
+TABLE = [["table", ["b", "a"], [["b"], ["a"]]]]
+
+
+def clash():
+    return Rulebook(["d", "c", "b", "a"], RULES)
+
+
+def torn():
+    return Rulebook(["b", "a"], TABLE)
+
+
+def calls():
+    """Functions with new arguments, lists wherever a list may be passed."""
+    for asked in (clash, torn):
+        for ask in (
+            rulebooks.steady, primes.prime_rules, primes.needless_alone, primes.needless_in_turn, primes.least_rules,
+            primes.useful, texts.text_of, court.is_bendable, court.bad_pairs, court.locked_changes,
+            court.least_bad_pair, evidence.verdict, Rulebook.states,
+        ):
+            yield ask, [asked()], {}
+        for ask in (court.bad_cuts, court.bad_joins, court.core, court.hull, Rulebook.broken, Rulebook.allows,
+                    Rulebook.is_state):
+            yield ask, [asked(), lot("ab")], {}
+        for ask in (court.is_bendable, court.bad_pairs, court.locked_changes):
+            yield ask, [asked()], {"low": (), "high": lot("ab")}
+        yield searching.unbent_plan, [asked(), [lot("b"), lot("a")]], {}
+    yield from calls_about_rules()
+    yield from calls_about_plans()
+    yield from calls_about_reach()
+
+
+def calls_about_rules():
+    for ask in (lots_module.least_lots, lots_module.greatest_lots):
+        yield ask, [list(lots("b ab a b"))], {}
+    for ask in (lots_module.common, lots_module.united, lots_module.less, lots_module.lots_between):
+        yield ask, [lot("ab"), lot("abc")], {}
+    yield lots_module.parts_of, [lot("abc")], {}
+    for rule in RULES + TABLE:
+        yield rules.made_rule, [lot("abcd"), copy.deepcopy(rule)], {}
+        yield rulebooks.follows, [clash(), copy.deepcopy(rule)], {}
+    yield primes.follow_paper, [clash(), ["imply", ["b", "a"], ["c"]]], {}
+    yield primes.is_follow_paper, [clash(), ["imply", ["b", "a"], ["c"]], ["state", lot("c")]], {}
+    yield primes.witness, [clash(), 1], {}
+    yield primes.prime_of, [("table", lot("ab"), lots("a b"))], {}
+    yield rulebooks.parting_state, [clash(), Rulebook(list("abcd"), [])], {}
+    yield Rulebook, [list("cba"), [["imply", ["b", "a"], []]]], {}
+    yield Rulebook.with_rules, [clash(), copy.deepcopy(RULES)], {}
+    yield Rulebook.only_rules, [clash(), [1, 0, 1]], {}
+    yield texts.read_book, ["services b a\nneed b a"], {}
+    for ask in (pairs.between, pairs.least_between, pairs.greatest_between):
+        yield ask, [clash(), (), lot("abc")], {}
+    for ask in (pairs.middles, pairs.upper_middles, pairs.cut_down, pairs.built_up, court.is_locked,
+                court.locked_within):
+        yield ask, [clash(), lot("ac"), lot("bd")], {}
+        yield ask, [torn(), lot("a"), lot("b")], {}
+    rows = evidence.verdict(clash())[1]
+    yield evidence.is_steps, [clash(), rows], {}
+    yield evidence.is_verdict, [clash(), ["steps", list(rows)]], {}
+    yield evidence.follow, [clash(), rows, lot("ac"), lot("bd")], {}
+
+
+def calls_about_plans():
+    for ask in (plans.checked_plan, plans.plan_changes, plans.wrong_change, plans.service_counts, plans.used_services,
+                plans.kept_services, bending.lazy_plan, bending.tails, bending.bend, bending.join_climb,
+                bending.meet_climb, searching.find_climb, searching.count_climbs, searching.climb_layers,
+                merging.down_up, merging.up_down):
+        yield ask, [clash(), list(lots("ac bd ad"))], {}
+        yield ask, [clash(), list(lots("cd c"))], {}
+    yield plans.checked_batches, [clash(), list(lots("b ab - b"))], {}
+    yield plans.checked_slots, [clash(), [None, [], list(lots("b ab - b"))]], {}
+    yield plans.fits, [list(lots("b ab")), lot("b")], {}
+    yield plans.wrong_change, [clash(), list(lots("ac bd ad"))], {"batches": list(lots("bd"))}
+    yield plans.wrong_slot, [clash(), list(lots("ac bd ad")), [None, list(lots("b b"))]], {}
+    yield Bent, [clash(), list(lots("ac bd ad")), list(lots("c cd acd"))], {}
+    yield merging.merged_plan, [Bent(clash(), list(lots("ac bd ad")), list(lots("c cd acd")))], {}
+    yield merging.short_plan, [Bent(clash(), list(lots("ac bd ad")), list(lots("c cd acd")))], {}
+    layers = [[lot("a"), lot("a")], [lot("a")]]
+    yield searching.shows_no_climb, [torn(), list(lots("a b")), layers], {"keep_first": True, "keep_last": True}
+
+
+def calls_about_reach():
+    for batches in (None, list(lots("b a b -"))):
+        for ask in (climbs.tops, reach.distances, stairs.beyond_tops, stairs.stairs):
+            yield ask, [clash(), lot("c"), copy.copy(batches)], {}
+        for ask in (climbs.climb_above, reach.shortest_plan, stairs.reach_answer):
+            yield ask, [clash(), lot("c"), lot("ac"), copy.copy(batches)], {}
+        for ask in (reach.shows_unreached, stairs.shows_outside):
+            yield ask, [clash(), lot("c"), lot("d"), copy.copy(batches), list(lots("ac bc c ac"))], {}
+        yield reach.distances, [clash(), lot("c"), copy.copy(batches)], {"stops": True}
+        yield reach.shows_far, [clash(), lot("c"), lot("d"), 1, copy.copy(batches), [(lot("c"), 0)]], {"stops": True}
+        steps = [list(lots("c c")), list(lots("ac bc"))]
+        yield stairs.shows_steps, [clash(), lot("c"), lot("d"), copy.copy(batches), steps], {}
+    yield climbs.climb_plan, [clash(), lot("ac"), lot("d"), list(lots("c cd acd"))], {}
+
+
+def plainly(value):
+    """A value as text, with what the package's own objects show."""
+    if isinstance(value, (list, tuple)):
+        return (type(value).__name__, [plainly(thing) for thing in value])
+    if isinstance(value, dict):
+        return {key: plainly(thing) for key, thing in value.items()}
+    if isinstance(value, Rulebook):
+        return ("Rulebook", plainly(value.services), plainly(value.rules))
+    if isinstance(value, Bent):
+        return ("Bent", plainly(value.plan), plainly(value.climb), plainly(value.whole))
+    return repr(value)
+
+
+def is_plain(value):
+    """Whether nothing is in it but tuples, strings, integers, True, False, None, rulebooks and bent plans."""
+    if type(value) is tuple:
+        return all(is_plain(thing) for thing in value)
+    if type(value) is Rulebook:
+        return is_plain(value.services) and is_plain(value.rules)
+    if type(value) is Bent:
+        return all(is_plain(told) for told in (value.plan, value.climb, value.first_stop, value.last_stop, value.whole))
+    return type(value) in (str, int, bool, type(None))
+
+
+def spoil(value):
+    """Changes every list in it."""
+    for thing in value:
+        if isinstance(thing, (list, tuple)):
+            spoil(thing)
+    if isinstance(value, list):
+        value.reverse()
+        value.append("spoilt")
+
+
+class AgainTest(unittest.TestCase):
+    def test_all_calls(self):
+        for ask, args, more in calls():
+            with self.subTest(ask=ask.__name__):
+                before = plainly([args, more])
+                told = ask(*args, **more)
+                self.assertTrue(is_plain(told))
+                self.assertEqual(plainly([args, more]), before)
+                first = plainly(told)
+                self.assertEqual(plainly(ask(*args, **more)), first)
+                self.assertEqual(plainly([args, more]), before)
+                spoil([args[1:] if isinstance(args[0], (Rulebook, Bent)) else args, list(more.values())])
+                self.assertEqual(plainly(told), first)
+                if isinstance(told, Rulebook):
+                    self.assertEqual(told.states(), Rulebook(told.services, told.rules).states())
+
+    def test_rulebooks_stay_as_they_are(self):
+        for ask, args, more in calls():
+            if isinstance(args[0], Rulebook):
+                fresh = Rulebook(args[0].services, args[0].rules)
+                ask(*args, **more)
+                self.assertEqual(args[0], fresh)
+                self.assertEqual(args[0].states(), fresh.states())
+
+
+if __name__ == "__main__":
+    unittest.main()

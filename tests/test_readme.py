@@ -1,0 +1,18 @@
+"""The examples in README.md answer what stands there."""
+
+import doctest
+import pathlib
+import unittest
+
+README = pathlib.Path(__file__).resolve().parent.parent / "README.md"
+
+
+class ReadmeTest(unittest.TestCase):
+    def test_examples(self):
+        told = doctest.testfile(str(README), module_relative=False)
+        self.assertGreater(told.attempted, 5)
+        self.assertEqual(told.failed, 0)
+
+
+if __name__ == "__main__":
+    unittest.main()
