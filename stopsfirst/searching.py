@@ -136,8 +136,9 @@ def unbent_plan(book, batches):
                 further = sorted(next_layer(grid, layer, started))
                 if not any([goal & ~mask == 0 for mask in further]):
                     return grid.in_turn(steps + [goal])
-                if steps[-1] & ~goal == 0 and (goal, *further) not in seen:
-                    seen[(goal, *further)] = True
+                place = (goal, *further)
+                if steps[-1] & ~goal == 0 and place not in seen:
+                    seen[place] = True
                     longer.append((steps + [goal], further))
         plans = longer
     return None

@@ -141,6 +141,13 @@ class LanguageTest(unittest.TestCase):
                     above = parents[node]
                     self.assertTrue(isinstance(above, (ast.For, ast.comprehension)) or called(above) in AT_ONCE)
 
+    def test_no_star_in_an_index_or_a_set(self):
+        """[L7] A star may stand in list and tuple literals, but not where such a tuple is an index."""
+        for path in self.each_file():
+            places = [node.slice for node in walk(path, ast.Subscript)] + walk(path, ast.Set)
+            for place in places:
+                self.assertFalse([node for node in ast.walk(place) if isinstance(node, ast.Starred)], ast.unparse(place))
+
     def test_sets(self):
         for path in self.each_file():
             parents = with_parents(tree_of(path))
