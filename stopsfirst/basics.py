@@ -22,6 +22,11 @@ def is_word(value, word):
     return isinstance(value, str) and value == word
 
 
+def is_service(services, value):
+    """Whether any value is one of some services."""
+    return isinstance(value, str) and value in services
+
+
 def without_repeats(states):
     """The states of a plan or climb as a list, without each one that is equal to the one before."""
     return [state for at, state in enumerate(states) if at == 0 or state != states[at - 1]]

@@ -1,7 +1,7 @@
 """Lots as bit masks, so that many of them can be asked about in good time.
 
 Bit k of a mask stands for the service at index k. If one lot is a proper part of another one,
-its mask is the smaller number.
+its mask is the smaller number. A set of lots is a number as well, in which bit k stands for the lot with mask k.
 """
 
 from stopsfirst.errors import InvalidState, NotAllowed
@@ -19,6 +19,9 @@ class Grid:
         self.allowed = [all_allow(rules, lot) for lot in self.lots]
         self.ordered = [self.masks[lot] for lot in sorted(self.lots)]
         self.running = [mask for mask in self.ordered if self.allowed[mask]]
+        self.below = sets_below(len(services))
+        self.above = sets_above(self.full)
+        self.running_set = set_of(self.running)
 
     def mask_of(self, value):
         """The mask of any value, or None if it is no lot of the services."""
@@ -44,6 +47,14 @@ class Grid:
     def first_of(self, masks):
         return min([self.lots[mask] for mask in masks])
 
+    def first_in(self, found):
+        """The mask of the first lot of a set that has at least one."""
+        return self.masks[self.first_of(members(found))]
+
+    def told_set(self, found):
+        """The lots of a set, ascending."""
+        return self.ascending(members(found))
+
 
 def lots_by_mask(services):
     lots = [()]
@@ -60,6 +71,44 @@ def parts_by_mask(count):
         fewer = parts[mask - lowest]
         parts.append(fewer + [part | lowest for part in fewer])
     return parts
+
+
+def sets_below(count):
+    """For each mask the set of its parts, as a number in which bit k stands for mask k."""
+    below = [1]
+    for mask in range(1, 1 << count):
+        lowest = mask & -mask
+        fewer = below[mask - lowest]
+        below.append(fewer | fewer << lowest)
+    return below
+
+
+def sets_above(full):
+    """For each mask the set of the masks that it is a part of."""
+    above = {full: 1 << full}
+    for mask in range(full - 1, -1, -1):
+        missing = full & ~mask
+        lowest = missing & -missing
+        more = above[mask | lowest]
+        above[mask] = more | more >> lowest
+    return [above[mask] for mask in range(full + 1)]
+
+
+def set_of(masks):
+    found = 0
+    for mask in masks:
+        found |= 1 << mask
+    return found
+
+
+def members(found):
+    """The masks of a set, smaller numbers first."""
+    masks = []
+    while found:
+        lowest = found & -found
+        masks.append(lowest.bit_length() - 1)
+        found = found & (found - 1)
+    return masks
 
 
 def all_allow(rules, lot):

@@ -29,6 +29,11 @@ class Weird:
         return False
 
 
+def is_same(value, other):
+    """Whether two values look alike, whatever they themselves claim: True is not 1, and a list is no tuple."""
+    return repr(value) == repr(other)
+
+
 def raised(call, *args, **more):
     """The class and the number of the error that a call raises, or the class alone; None if it raises none."""
     try:

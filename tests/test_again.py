@@ -4,10 +4,11 @@ import copy
 import unittest
 
 from stopsfirst import (
-    bending, climbs, court, evidence, lots as lots_module, merging, pairs, plans, primes, reach, rulebooks, rules,
-    searching, stairs, texts,
+    bending, climbs, costs, court, derived, evidence, islands, kinds, lids, longways, lots as lots_module, merging,
+    pairs, plans, primes, reach, rulebooks, rules, searching, shapes, stairs, texts, words,
 )
 from stopsfirst.bending import Bent
+from stopsfirst.costs import Cost
 from stopsfirst.rulebooks import Rulebook
 from tests.helper import lot, lots
 
@@ -41,6 +42,8 @@ def calls():
     yield from calls_about_rules()
     yield from calls_about_plans()
     yield from calls_about_reach()
+    yield from calls_about_kinds()
+    yield from calls_about_costs()
 
 
 def calls_about_rules():
@@ -107,6 +110,59 @@ def calls_about_reach():
     yield climbs.climb_plan, [clash(), lot("ac"), lot("d"), list(lots("c cd acd"))], {}
 
 
+def calls_about_kinds():
+    yield longways.long_row, [3], {}
+    yield longways.long_book, [2], {}
+    for batches in ([], list(lots("b a b -"))):
+        yield islands.islands, [clash(), copy.copy(batches)], {}
+        yield islands.direct_pairs, [clash(), copy.copy(batches)], {}
+        yield islands.centers, [clash(), copy.copy(batches), lot("ab")], {}
+    yield islands.descent_kind, [clash(), [], 1, 0], {}
+    yield islands.final_changes, [clash(), list(lots("acd ac c cd")), [lot("d")]], {}
+    for asked in (clash, torn):
+        for ask in (kinds.need_harm, words.source_paper, derived.derive):
+            yield ask, [asked()], {}
+        yield kinds.open_pair, [asked(), "either"], {}
+        yield words.misfit, [asked(), lot("a")], {}
+        yield words.is_source_paper, [asked(), ["way", ["a"]]], {}
+    rule = ["cap", [["b", 2], ["c", 3], ["a", 2]], 4]
+    yield kinds.rule_open_pair, [list("dcba"), copy.deepcopy(rule), "join"], {}
+    yield kinds.harm, [list("dcba"), copy.deepcopy(rule)], {}
+    yield words.led_middle, [lot("a"), lot("ab"), lot("bc")], {}
+    pairs_only = [["imply", ["b", "a"], []], ["imply", [], ["d", "a"]]]
+    yield words.pair_paper, [Rulebook(list("abcd"), pairs_only)], {}
+    yield words.is_pair_paper, [Rulebook(list("abcd"), pairs_only), ["torn", list("abc"), lot("a"), lot("b")]], {}
+    step = ("copy", ("led", list("ba"), [["imply", ["a"], ["b"]]], ()), "a", "z")
+    for ask in (derived.step_services, derived.step_states, derived.step_kind):
+        yield ask, [copy.deepcopy(step)], {}
+    yield derived.step_middle, [copy.deepcopy(step), ("a", "b", "z"), ()], {}
+    yield derived.is_step_of, [copy.deepcopy(step), clash()], {}
+
+
+def calls_about_costs():
+    form = ("most", (("sum", (("a", 2), ("b", -1))), ("cut", (("a", "c", 3),)), ("told", ((lot("ac"), 4),))))
+    cost, other = Cost(list("cba"), form), Cost(list("ba"), ("peak", (("a", 1),), (("b", 2),)))
+    yield Cost, [list("cba"), form], {}
+    yield Cost.__call__, [cost, lot("abz")], {}
+    yield costs.lids_of, [[cost, other], list(lots("a ab -"))], {}
+    yield costs.even_middles, [clash(), [cost, other], lot("ac"), lot("bd")], {}
+    yield costs.uneven, [clash(), [cost, other]], {}
+    yield costs.under, [clash(), [cost, other], [1, 2]], {}
+    yield costs.steep_changes, [clash(), [cost]], {}
+    for ask in (shapes.meet_fault, shapes.join_fault, shapes.singles):
+        yield ask, [cost], {}
+    for kind in shapes.KINDS:
+        yield shapes.refuting, [cost, kind], {}
+    for batches in ([], list(lots("b a d -"))):
+        for ask in (lids.least_lid, lids.bent_lid):
+            yield ask, [clash(), cost, copy.copy(batches), lot("ac"), lot("bd")], {}
+        yield lids.lid_holds, [clash(), cost, copy.copy(batches), lot("c"), lot("d"), [1, list(lots("c d")), []]], {}
+        yield lids.ladder, [clash(), cost, copy.copy(batches), lot("c")], {}
+        for ask in (lids.front, lids.bent_front):
+            yield ask, [clash(), cost, other, copy.copy(batches), lot("c"), lot("bc")], {}
+    yield lids.bend_under, [clash(), [other], list(lots("ac bd ad"))], {}
+
+
 def plainly(value):
     """A value as text, with what the package's own objects show."""
     if isinstance(value, (list, tuple)):
@@ -115,17 +171,21 @@ def plainly(value):
         return {key: plainly(thing) for key, thing in value.items()}
     if isinstance(value, Rulebook):
         return ("Rulebook", plainly(value.services), plainly(value.rules))
+    if isinstance(value, Cost):
+        return ("Cost", plainly(value.services), plainly(value.form))
     if isinstance(value, Bent):
         return ("Bent", plainly(value.plan), plainly(value.climb), plainly(value.whole))
     return repr(value)
 
 
 def is_plain(value):
-    """Whether nothing is in it but tuples, strings, integers, True, False, None, rulebooks and bent plans."""
+    """Whether nothing is in it but tuples, strings, integers, True, False, None, and the package's own objects."""
     if type(value) is tuple:
         return all(is_plain(thing) for thing in value)
     if type(value) is Rulebook:
         return is_plain(value.services) and is_plain(value.rules)
+    if type(value) is Cost:
+        return is_plain(value.services) and is_plain(value.form)
     if type(value) is Bent:
         return all(is_plain(told) for told in (value.plan, value.climb, value.first_stop, value.last_stop, value.whole))
     return type(value) in (str, int, bool, type(None))
@@ -152,7 +212,7 @@ class AgainTest(unittest.TestCase):
                 first = plainly(told)
                 self.assertEqual(plainly(ask(*args, **more)), first)
                 self.assertEqual(plainly([args, more]), before)
-                spoil([args[1:] if isinstance(args[0], (Rulebook, Bent)) else args, list(more.values())])
+                spoil([args[1:] if isinstance(args[0], (Rulebook, Bent, Cost)) else args, list(more.values())])
                 self.assertEqual(plainly(told), first)
                 if isinstance(told, Rulebook):
                     self.assertEqual(told.states(), Rulebook(told.services, told.rules).states())

@@ -75,6 +75,34 @@ INTERFACE = {
         "shows_outside(book, start, goal, batches, value)", "stairs(book, start, batches)",
         "shows_steps(book, start, goal, batches, value)",
     ),
+    "longways": ("long_row(number)", "long_book(number)"),
+    "islands": (
+        "islands(book, batches)", "direct_pairs(book, batches)", "descent_kind(book, batches, first, second)",
+        "final_changes(book, plan, batches)", "centers(book, batches, lot)",
+    ),
+    "kinds": (
+        "open_pair(book, word)", "rule_open_pair(services, rule, word)", "harm(services, rule)", "need_harm(book)",
+    ),
+    "words": (
+        "led_middle(sources, first, second)", "misfit(book, sources)", "source_paper(book)",
+        "is_source_paper(book, value)", "pair_paper(book)", "is_pair_paper(book, value)",
+    ),
+    "derived": (
+        "step_services(step)", "step_states(step)", "step_kind(step)", "step_middle(step, first, second)",
+        "derive(book)", "is_step_of(step, book)",
+    ),
+    "costs": (
+        "class Cost(services, form)", "Cost.__call__(self, state)", "Cost.__eq__(self, other)",
+        "lids_of(costs, states)", "even_middles(book, costs, a, b)", "uneven(book, costs)",
+        "under(book, costs, lids)", "steep_changes(book, costs)",
+    ),
+    "shapes": ("meet_fault(cost)", "join_fault(cost)", "singles(cost)", "refuting(cost, kind)"),
+    "lids": (
+        "least_lid(book, cost, batches, s, t)", "bent_lid(book, cost, batches, s, t)",
+        "lid_holds(book, cost, batches, s, t, sheet)", "bend_under(book, costs, plan)",
+        "ladder(book, cost, batches, s)", "front(book, first, second, batches, s, t)",
+        "bent_front(book, first, second, batches, s, t)",
+    ),
 }
 
 PROPERTIES = {"bending": ("Bent.first_stop", "Bent.last_stop", "Bent.whole")}

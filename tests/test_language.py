@@ -16,7 +16,7 @@ METHODS = set("""append clear copy count endswith extend find get index insert i
 NODES = """Module Expr Constant ImportFrom alias FunctionDef arguments arg ClassDef Assign AugAssign Name Load Store
     Return If For While Break Continue Pass Raise Try ExceptHandler Call keyword Attribute Subscript Slice Tuple List
     Dict Set ListComp DictComp SetComp comprehension Lambda IfExp BoolOp And Or UnaryOp Not Invert USub BinOp Add Sub
-    Mult FloorDiv BitAnd BitOr BitXor LShift RShift Compare Eq NotEq Lt LtE Gt GtE In NotIn Is IsNot Starred
+    Mult FloorDiv Mod BitAnd BitOr BitXor LShift RShift Compare Eq NotEq Lt LtE Gt GtE In NotIn Is IsNot Starred
     JoinedStr FormattedValue""".split()
 BARRED = set("""register mro elements open input law type typing enum exit eval exec compile vars dir id help license
     copyright credits globals locals super getattr setattr hasattr sys os gc quit""".split())
@@ -157,7 +157,7 @@ class LanguageTest(unittest.TestCase):
                     self.assertEqual(parents[node].keywords, [])
 
     def test_classes_and_decorators(self):
-        allowed = ("__init__", "__eq__", "__repr__", "__str__", "__len__")
+        allowed = ("__init__", "__eq__", "__repr__", "__str__", "__len__", "__call__")
         for path in self.each_file():
             for node in walk(path, ast.FunctionDef):
                 self.assertTrue(all(ast.unparse(told) == "property" for told in node.decorator_list))
@@ -165,8 +165,19 @@ class LanguageTest(unittest.TestCase):
                 nested = [other for other in ast.walk(node) if isinstance(other, ast.FunctionDef)]
                 self.assertEqual(len(nested), 1, node.name)
             for node in walk(path, ast.ExceptHandler):
-                self.assertIsInstance(node.type, ast.Name)
-                self.assertFalse(hasattr(builtins, node.type.id))
+                for told in node.type.elts if isinstance(node.type, ast.Tuple) else [node.type]:
+                    self.assertIsInstance(told, ast.Name)
+                    self.assertFalse(hasattr(builtins, told.id))
+
+    def test_names_of_attributes(self):
+        """[L26], [L18] No attribute has the name of a method that values of Python's own have, or of an own one."""
+        methods = {node.name for path in FILES for told in walk(path, ast.ClassDef) for node in told.body
+                   if isinstance(node, ast.FunctionDef)}
+        python = {name for kind in (str, bytes, list, dict, set, tuple, int) for name in vars(kind)} - {"count", "index"}
+        for path in self.each_file():
+            for node in walk(path, ast.Attribute):
+                if isinstance(node.ctx, ast.Store):
+                    self.assertNotIn(node.attr, methods | python)
 
     def test_loops_do_not_change_what_they_go_over(self):
         for path in self.each_file():
