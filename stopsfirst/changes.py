@@ -3,7 +3,18 @@
 A table has, for each mask, the set of the states to which a change leads from it.
 """
 
-from stopsfirst.grids import members
+from stopsfirst.grids import members, state_masks
+from stopsfirst.plans import batch_masks
+
+
+class Journey:
+    """The changes that fit into some batches, and the states that were asked about, by their masks."""
+
+    def __init__(self, book, batches, states):
+        checked = batch_masks(book, batches)
+        self.field = book.grid()
+        self.ends = state_masks(self.field, states)
+        self.leads = change_table(self.field, checked)
 
 
 def change_table(grid, batches):
@@ -88,3 +99,21 @@ def leading_into(table, level, goals):
         if table[mask] & goals:
             found |= 1 << mask
     return found
+
+
+def told_masks(grid, value):
+    """The masks of the states of a tuple, or None if any value is no tuple of allowed states."""
+    if not isinstance(value, tuple):
+        return None
+    masks = [grid.state_of(state) for state in value]
+    return None if None in masks else masks
+
+
+def is_way(table, masks):
+    """Whether a change of the table leads from each state of some to the next one."""
+    return all([table[masks[at - 1]] >> masks[at] & 1 for at in range(1, len(masks))])
+
+
+def goes_between(ends, masks):
+    """Whether some states begin with the first and end with the last of two."""
+    return len(masks) > 0 and [masks[0], masks[-1]] == ends

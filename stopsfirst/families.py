@@ -201,7 +201,7 @@ def great_middle(family, first, second):
 
 
 def copy_middle(family, first, second):
-    _, _, name, new = family.told
+    name, new = family.told[2], family.told[3]
     middle = inner_middle(family, less(first, (new,)), less(second, (new,)))
     return with_copy(middle, name, new)
 

@@ -2,27 +2,24 @@
 
 from stopsfirst.basics import is_integer, is_tuple_of
 from stopsfirst.bending import bend
-from stopsfirst.changes import change_table, first_way, reached_set, rising_table
+from stopsfirst.changes import Journey, first_way, goes_between, is_way, reached_set, rising_table, told_masks
 from stopsfirst.costs import check_costs, lids_of, under, value_lists
 from stopsfirst.court import is_bendable
 from stopsfirst.errors import NotBendable
-from stopsfirst.grids import members, set_of, state_masks
-from stopsfirst.plans import batch_masks, plan_masks
+from stopsfirst.grids import members, set_of
+from stopsfirst.plans import plan_masks
 
 
-class Climate:
-    """The states of a rulebook with the values of some costs, and what the batches let.
+class Climate(Journey):
+    """The changes that the batches let, with the values that some costs have in each state.
 
-    The ways that are looked for are plans, or climbs: they begin at any state within the first one, stop nothing and
+    The ways that are looked for are plans, or climbs: these begin at any state within the first one, stop nothing and
     end at any state around the last one.
     """
 
     def __init__(self, book, costs, batches, states, climbing):
         self.numbers = value_lists(book, costs)
-        checked = batch_masks(book, batches)
-        self.field = book.grid()
-        self.ends = state_masks(self.field, states)
-        self.leads = change_table(self.field, checked)
+        Journey.__init__(self, book, batches, states)
         self.climbing = climbing
         if climbing:
             self.leads = rising_table(self.field, self.leads)
@@ -95,19 +92,17 @@ def lid_holds(book, cost, batches, s, t, sheet):
     number, plan, closed = sheet
     if number is None:
         return plan is None and is_closed(climate, closed, climate.field.running_set)
-    if not is_integer(number) or not is_way(climate, plan, states_under(climate, (number,))):
+    if not is_integer(number) or not is_way_inside(climate, plan, states_under(climate, (number,))):
         return False
     return is_closed(climate, closed, states_under(climate, (number - 1,)))
 
 
-def is_way(climate, value, inside):
+def is_way_inside(climate, value, inside):
     """Whether any value is a tuple that is a plan from the first to the last state by states of a set."""
     masks = told_masks(climate.field, value)
-    if masks is None or masks == [] or [masks[0], masks[-1]] != climate.ends:
+    if masks is None or not goes_between(climate.ends, masks) or set_of(masks) & ~inside:
         return False
-    if not all([inside >> mask & 1 for mask in masks]):
-        return False
-    return all([climate.leads[masks[at - 1]] >> masks[at] & 1 for at in range(1, len(masks))])
+    return is_way(climate.leads, masks)
 
 
 def is_closed(climate, value, inside):
@@ -115,21 +110,13 @@ def is_closed(climate, value, inside):
     masks = told_masks(climate.field, value)
     if masks is None:
         return False
-    found = set_of(sorted(set(masks)))
+    found = set_of(masks)
     if len(members(found)) != len(masks) or found & ~inside:
         return False
     start, goal = climate.ends
     if found >> goal & 1 or inside & ~found & 1 << start:
         return False
     return reached_set(climate.leads, found, inside) == found
-
-
-def told_masks(grid, value):
-    """The masks of the states of a tuple, or None if any value is no tuple of allowed states."""
-    if not isinstance(value, tuple):
-        return None
-    masks = [grid.state_of(state) for state in value]
-    return None if None in masks else masks
 
 
 def bend_under(book, costs, plan):

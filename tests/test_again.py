@@ -4,11 +4,13 @@ import copy
 import unittest
 
 from stopsfirst import (
-    bending, climbs, costs, court, derived, evidence, islands, kinds, lids, longways, lots as lots_module, merging,
-    pairs, plans, primes, reach, rulebooks, rules, searching, shapes, stairs, texts, words,
+    bending, cheapest, climbs, costs, court, dearer, derived, evidence, gates, islands, kinds, lids, longways, losses,
+    lots as lots_module, merging, pairs, plans, potentials, primes, reach, rulebooks, rules, searching, shapes, slots,
+    splitting, stairs, texts, words,
 )
 from stopsfirst.bending import Bent
 from stopsfirst.costs import Cost
+from stopsfirst.prices import Prices
 from stopsfirst.rulebooks import Rulebook
 from tests.helper import lot, lots
 
@@ -44,6 +46,9 @@ def calls():
     yield from calls_about_reach()
     yield from calls_about_kinds()
     yield from calls_about_costs()
+    yield from calls_about_losses()
+    yield from calls_about_prices()
+    yield from calls_about_slots()
 
 
 def calls_about_rules():
@@ -163,6 +168,70 @@ def calls_about_costs():
     yield lids.bend_under, [clash(), [other], list(lots("ac bd ad"))], {}
 
 
+def calls_about_losses():
+    for ask in (losses.loss_of, losses.starts_of):
+        yield ask, [clash(), list(lots("ac bd ad"))], {}
+    yield losses.keeps_limits, [clash(), list(lots("ac bd ad")), lot("abc"), lot("abd")], {}
+    yield losses.lies_under, [lot("a"), list(lots("b ab")), lot("b")], {}
+    yield losses.least_hitters, [list(lots("bc ab abc"))], {}
+    for batches in ([], list(lots("b ab d c"))):
+        yield losses.limited_plan, [clash(), copy.copy(batches), lot("ac"), lot("bd"), lot("ac"), lot("bd")], {}
+        yield losses.limited_tops, [clash(), copy.copy(batches), lot("ac"), lot("a"), lot("bd")], {}
+        fence = list(lots("ac acd bcd"))
+        yield losses.fence_holds, [clash(), copy.copy(batches), lot("ac"), lot("a"), lot("bd"), fence], {}
+        for ask in (losses.least_losses, losses.least_starts, losses.least_footprints, losses.loss_evidence,
+                    gates.least_helpers, gates.least_blocks):
+            yield ask, [clash(), copy.copy(batches), lot("ac"), lot("bd")], {}
+        told = [clash(), copy.copy(batches), lot("ac"), lot("bd"), [lot("ac")], [[list(lots("ac bd"))], []]]
+        yield losses.losses_told, told, {}
+        for ask in (gates.least_carriers, gates.least_gates):
+            yield ask, [clash(), copy.copy(batches), lot("ac"), "b"], {}
+        yield gates.opening_plan, [clash(), copy.copy(batches), lot("ac"), "b", lot("d")], {}
+        for ask in (gates.comes_first, gates.parting_plan):
+            yield ask, [clash(), copy.copy(batches), lot("ac"), "b", "d"], {}
+        for ask in (gates.first_pairs, gates.leaning_pairs):
+            yield ask, [clash(), copy.copy(batches), lot("ac")], {}
+
+
+def calls_about_prices():
+    lists = [[["b", 2], ["a", -1]], [["a", 3], ["b", -2]]]
+    yield Prices, copy.deepcopy(lists), {"fee": 1, "waits": [["c", 4]]}
+    prices = Prices(*lists, fee=1, waits=[["d", 4], ["b", 1]])
+    yield Prices.start_price, [prices, "a"], {}
+    yield Prices.of_change, [prices, lot("a"), lot("bc")], {}
+    yield Prices.of_plan, [prices, list(lots("a bc a"))], {}
+    yield Prices.round_trips, [prices], {}
+    yield Prices.shifted, [prices, "a", 5], {}
+    for batches in ([], list(lots("b ab d c"))):
+        yield cheapest.least_prices, [clash(), copy.copy(batches), prices, lot("ac")], {}
+        for ask in (cheapest.least_price, cheapest.cheapest_plan, cheapest.tight_changes, cheapest.cheapest_three_part,
+                    cheapest.cheapest_merged, potentials.cheapest_evidence):
+            yield ask, [clash(), copy.copy(batches), prices, lot("ac"), lot("bd")], {}
+        value = [[list(lots("ac bd"))], [[lot("ac"), 0]]]
+        yield potentials.is_cheapest_evidence, [clash(), copy.copy(batches), prices, lot("ac"), lot("bd"), value], {}
+        for ask in (potentials.is_potential, potentials.is_plain_potential):
+            yield ask, [clash(), copy.copy(batches), prices, lot("ac"), [[lot("ac"), 0]]], {}
+    for asked in (clash, torn):
+        yield splitting.unsplit_pair, [asked()], {}
+        yield splitting.false_potential, [asked()], {"with_waits": True}
+        yield splitting.false_potential, [asked()], {}
+    yield splitting.split_plan, [clash(), lot("ac"), lot("bd")], {}
+    yield dearer.dearer_prices, [clash(), list(lots("ac c bc")), list(lots("ac bc"))], {}
+    yield dearer.dearer_prices, [clash(), list(lots("ac c ac")), list(lots("ac acd ac"))], {}
+
+
+def calls_about_slots():
+    for told in ([], [None, [], list(lots("b ab - b"))], [list(lots("d b")), list(lots("b a")), [lot("c")]]):
+        for ask in (slots.slot_states, slots.slot_tops):
+            yield ask, [clash(), lot("ac"), copy.deepcopy(told)], {}
+        for ask in (slots.first_slot, slots.slot_plan, slots.open_lots, slots.barring_lots, slots.losses_borne):
+            yield ask, [clash(), lot("ac"), lot("bd"), copy.deepcopy(told)], {}
+        yield slots.is_slot_table, [clash(), lot("ac"), copy.deepcopy(told), [[lot("ac")]]], {}
+        if told:
+            yield slots.slot_answer, [clash(), lot("ac"), lot("bd"), copy.deepcopy(told)], {}
+            yield slots.first_time, [clash(), lot("ac"), lot("bd"), copy.deepcopy(told), 7], {}
+
+
 def plainly(value):
     """A value as text, with what the package's own objects show."""
     if isinstance(value, (list, tuple)):
@@ -173,6 +242,8 @@ def plainly(value):
         return ("Rulebook", plainly(value.services), plainly(value.rules))
     if isinstance(value, Cost):
         return ("Cost", plainly(value.services), plainly(value.form))
+    if isinstance(value, Prices):
+        return ("Prices", plainly([value.starts, value.stops, value.waits, value.fee, value.of_change((), lot("ab"))]))
     if isinstance(value, Bent):
         return ("Bent", plainly(value.plan), plainly(value.climb), plainly(value.whole))
     return repr(value)
@@ -186,6 +257,8 @@ def is_plain(value):
         return is_plain(value.services) and is_plain(value.rules)
     if type(value) is Cost:
         return is_plain(value.services) and is_plain(value.form)
+    if type(value) is Prices:
+        return is_plain((value.starts, value.stops, value.waits, value.fee))
     if type(value) is Bent:
         return all(is_plain(told) for told in (value.plan, value.climb, value.first_stop, value.last_stop, value.whole))
     return type(value) in (str, int, bool, type(None))
@@ -212,7 +285,7 @@ class AgainTest(unittest.TestCase):
                 first = plainly(told)
                 self.assertEqual(plainly(ask(*args, **more)), first)
                 self.assertEqual(plainly([args, more]), before)
-                spoil([args[1:] if isinstance(args[0], (Rulebook, Bent, Cost)) else args, list(more.values())])
+                spoil([args[1:] if isinstance(args[0], (Rulebook, Bent, Cost, Prices)) else args, list(more.values())])
                 self.assertEqual(plainly(told), first)
                 if isinstance(told, Rulebook):
                     self.assertEqual(told.states(), Rulebook(told.services, told.rules).states())

@@ -103,6 +103,50 @@ INTERFACE = {
         "ladder(book, cost, batches, s)", "front(book, first, second, batches, s, t)",
         "bent_front(book, first, second, batches, s, t)",
     ),
+    "losses": (
+        "loss_of(book, plan)", "starts_of(book, plan)", "keeps_limits(book, plan, stops, starts)",
+        "limited_plan(book, batches, start, goal, stops, starts)",
+        "fence_holds(book, batches, start, stops, starts, value)", "lies_under(state, fence, stops)",
+        "limited_tops(book, batches, start, stops, starts)", "least_losses(book, batches, start, goal)",
+        "least_starts(book, batches, start, goal)", "least_footprints(book, batches, start, goal)",
+        "least_hitters(lots)", "loss_evidence(book, batches, start, goal)",
+        "losses_told(book, batches, start, goal, losses, value)",
+    ),
+    "gates": (
+        "least_carriers(book, batches, start, service)", "least_gates(book, batches, start, service)",
+        "opening_plan(book, batches, start, service, carrier)", "comes_first(book, batches, start, one, other)",
+        "first_pairs(book, batches, start)", "least_helpers(book, batches, start, goal)",
+        "least_blocks(book, batches, start, goal)", "parting_plan(book, batches, start, runs, rests)",
+        "leaning_pairs(book, batches, start)",
+    ),
+    "prices": (
+        "class Prices(starts, stops, *, fee=0, waits=())", "Prices.__eq__(self, other)",
+        "Prices.start_price(self, name)", "Prices.stop_price(self, name)", "Prices.wait_of(self, name)",
+        "Prices.of_change(self, one, other)", "Prices.of_plan(self, plan)", "Prices.round_trips(self)",
+        "Prices.shifted(self, name, by)",
+    ),
+    "cheapest": (
+        "least_prices(book, batches, prices, start)", "least_price(book, batches, prices, start, goal)",
+        "cheapest_plan(book, batches, prices, start, goal)", "tight_changes(book, batches, prices, start, goal)",
+        "cheapest_three_part(book, batches, prices, start, goal)",
+        "cheapest_merged(book, batches, prices, start, goal)",
+    ),
+    "potentials": (
+        "is_potential(book, batches, prices, start, value)", "is_plain_potential(book, batches, prices, start, value)",
+        "cheapest_evidence(book, batches, prices, start, goal)",
+        "is_cheapest_evidence(book, batches, prices, start, goal, value)",
+    ),
+    "splitting": (
+        "split_plan(book, one, other)", "unsplit_pair(book)", "false_potential(book, *, with_waits=False)",
+    ),
+    "dearer": ("dearer_prices(book, one, other)",),
+    "slots": (
+        "slot_states(book, start, slots)", "slot_tops(book, start, slots)", "is_slot_table(book, start, slots, value)",
+        "first_slot(book, start, goal, slots)", "slot_plan(book, start, goal, slots)",
+        "slot_answer(book, start, goal, slots)", "open_lots(book, start, goal, slots)",
+        "barring_lots(book, start, goal, slots)", "losses_borne(book, start, goal, slots)",
+        "first_time(book, start, goal, cycle, begin)",
+    ),
 }
 
 PROPERTIES = {"bending": ("Bent.first_stop", "Bent.last_stop", "Bent.whole")}
