@@ -40,7 +40,7 @@ def derive(book):
     if step is not None:
         return step
     blocks = [derived_whole(block) for block in block_books(book)]
-    if len(blocks) == 1 or None in blocks:
+    if None in blocks:
         return None
     step = blocks[-1]
     for block in reversed(blocks[:-1]):

@@ -28,11 +28,8 @@ def least_openers(journey, base, goals):
     """The least lots outside the first state and a base with which, and the base, one of the goals is reached."""
     grid = journey.field
     outside = grid.full & ~journey.ends[0] & ~base
-    found = []
-    for lot in sorted(grid.parts[outside]):
-        if not any([known & ~lot == 0 for known in found]) and reached_by_lot(journey, base | lot) & goals:
-            found.append(lot)
-    return least_lots(grid.in_turn(found))
+    lots = [lot for lot in grid.parts[outside] if reached_by_lot(journey, base | lot) & goals]
+    return least_lots(grid.in_turn(lots))
 
 
 def least_carriers(book, batches, start, service):

@@ -111,10 +111,8 @@ def is_closed(climate, value, inside):
     if masks is None:
         return False
     found = set_of(masks)
-    if len(members(found)) != len(masks) or found & ~inside:
-        return False
     start, goal = climate.ends
-    if found >> goal & 1 or inside & ~found & 1 << start:
+    if len(members(found)) != len(masks) or found >> goal & 1 or inside & ~found & 1 << start:
         return False
     return reached_set(climate.leads, found, inside) == found
 

@@ -3,6 +3,7 @@
 from stopsfirst.basics import is_word
 from stopsfirst.errors import InvalidQuestion
 from stopsfirst.grids import Grid, members
+from stopsfirst.lots import common, united
 from stopsfirst.rulebooks import Rulebook
 
 KINDS = ("meets", "joins", "bendable")
@@ -70,7 +71,8 @@ def refuting(cost, kind):
         pair = first_fault(cost, word)
         if pair is not None:
             return closed_refuting(cost, word, pair)
-    return mixed_refuting(cost)
+    told = singles(cost)
+    return None if told[0] == "single" else mixed_refuting(cost, told[1], told[2], told[3])
 
 
 def closed_refuting(cost, kind, pair):
@@ -87,40 +89,15 @@ def table_book(services, lots):
     return Rulebook(services, (("table", services, lots),))
 
 
-def mixed_refuting(cost):
-    """If any lot from a & b up to a | b is too dear, one within one of a, b or around one of them is, for some a, b."""
-    grid = lot_grid(cost)
-    values = values_on(grid, cost)
-    for a in grid.ordered:
-        for b in grid.ordered:
-            for m in dearer_between(grid, values, a, b):
-                if m & ~a == 0:
-                    return book_with_two(cost.services, a, b, lower_family(grid.full, a, b, m))
-                if b & ~m == 0:
-                    return book_with_two(cost.services, a, b, upper_family(grid.full, a, b, m))
-    return None
+def mixed_refuting(cost, a, b, m):
+    """A bendable family in which only m is a middle of the joined lot of a and b, and of their common one.
 
-
-def book_with_two(services, a, b, family):
-    """The rulebook of a family of masks with two new services, whose bits come last, and the pair a, b with these."""
-    new = [name for name in NEW_NAMES if name not in services][:2]
-    names = [*services, *new]
-    lots = [tuple(sorted([name for at, name in enumerate(names) if mask >> at & 1])) for mask in family]
-    first = tuple([name for at, name in enumerate(services) if a >> at & 1])
-    second = tuple(sorted(new + [name for at, name in enumerate(services) if b >> at & 1]))
-    return (table_book(names, lots), first, second)
-
-
-def lower_family(full, a, b, m):
-    """A family in which m is the only middle of a, and b with two new services; the bits of these come last."""
-    one = full + 1
-    wide = b | one | one << 1
-    y = a & b | one
-    return [a, wide, m, y, m | y, m | wide, y | a]
-
-
-def upper_family(full, a, b, m):
-    """The same turned around: with b and the new services added, the only middle is m with these."""
-    whole = full | full + 1 | full + 1 << 1
-    rests = lower_family(full, full & ~b, full & ~a, m ^ full)
-    return [whole & ~mask for mask in rests]
+    Neither of these costs more than a and b, so m costs more than both. The common one has two new services besides,
+    so that there can be one of the states that keep the family bendable.
+    """
+    p, q = [(name,) for name in NEW_NAMES if name not in cost.services][:2]
+    top, low = united(a, b), common(a, b)
+    y = united(low, p)
+    goal = united(y, q)
+    family = [top, goal, m, y, united(m, y), united(m, goal), united(y, top)]
+    return (table_book(united(cost.services, p + q), family), top, goal)

@@ -189,6 +189,23 @@ class HarmTest(unittest.TestCase):
         rule = ["table", list("abcd"), lots("- ab cd abcd")]
         self.assertEqual(self.check(lot("abcd"), rule)[1:], lots("ab cd"))
 
+    def test_tables_closed_under_both(self):
+        """Random lots with all their meets and joins; harm is done between wide pairs, wherever their services stand."""
+        chance = random.Random(388)
+        lengths = set()
+        for _ in range(250):
+            states = {chance.choice(helper.all_lots("abcde")) for _ in range(chance.randrange(2, 7))}
+            while True:
+                more = states | {tell(a, b) for a in states for b in states for tell in (meet, join)}
+                if more == states:
+                    break
+                states = more
+            told = self.check(lot("abcde"), helper.table_of("abcde", sorted(states))[0])
+            lengths.add(told and len(told[0]))
+            wide = [b for b in states if told and b == told[2] and len(told[0]) == 7]
+            lengths |= {"late" for b in wide if b < meet(told[1], b)}
+        self.assertEqual(lengths, {None, 7, "late"})
+
     def test_all_bendable_families(self):
         """No rule about three services does harm only between wide pairs, so here all families tell."""
         chance = random.Random(386)

@@ -193,6 +193,8 @@ class LidHoldsTest(unittest.TestCase):
         self.assertIs(lid_holds(FREE, cost, (), lot("a"), lot("b"), (None, None, lots("a -"))), True)
         self.assertIs(lid_holds(FREE, cost, (), lot("a"), lot("b"), (None, None, lots("a"))), False)
         self.assertIs(lid_holds(FREE, cost, (), lot("a"), lot("b"), (True, None, lots("a -"))), False)
+        self.assertIs(lid_holds(FREE, cost, (), lot("a"), lot("b"), (None, lots("a"), lots("a -"))), False)
+        self.assertIs(lid_holds(FREE, cost, (), lot("a"), lot("b"), (None, (), lots("a -"))), False)
 
 
 class BentLidTest(unittest.TestCase):

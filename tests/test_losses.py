@@ -214,6 +214,8 @@ class FenceTest(unittest.TestCase):
         self.assertIs(fence_holds(*ask, ((),) + good), True)
         self.assertIs(fence_holds(value=good, starts=lot("bc"), stops=lot("a"), start=lot("a"), batches=lots("c b"),
                                   book=CLASH), True)
+        for odd in (good[:1] + good, good + good[-1:], (good[1], good[0], *good[2:]), (*good[:2], good[3], good[2])):
+            self.assertIs(fence_holds(*ask, odd), False)
         for odd in helper.ODD_VALUES + (Weird(), (Weird(),), (), lot("ab"), good[:1], good[1:], good[::-1], list(good),
                                         good + good[1:], lots("ab ac bc"), good + (lot("z"),)):
             self.assertIs(fence_holds(*ask, odd), False, repr(odd))
@@ -275,6 +277,15 @@ class LeastTest(unittest.TestCase):
         self.assertEqual(least_footprints(*ask), ((lot("c"), lot("abc")), (lot("d"), lot("abd"))))
         plans, fences = loss_evidence(*ask)
         self.assertEqual((len(plans), len(fences)), (2, 1))
+
+    def test_footprints_ascend_as_lots_do(self):
+        """e and f are started one after the other only while b, or both a and d, run."""
+        states = [state for state in helper.all_lots("abdef")
+                  if ("e" in state) == ("f" in state) or "b" in state or {"a", "d"} <= set(state)]
+        book = Rulebook(lot("abdef"), helper.table_of("abdef", states))
+        ask = (book, lots("a b d e f"), (), lot("ef"))
+        self.assertEqual(least_losses(*ask), lots("ad b"))
+        self.assertEqual(least_footprints(*ask), ((lot("ad"), lot("adef")), (lot("b"), lot("bef"))))
 
     def test_where_joins_are_allowed(self):
         seen = 0
@@ -409,6 +420,9 @@ class EvidenceTest(unittest.TestCase):
                       (plans, (list(fences[0]), fences[1])), (plans, fences[::-1])):
             self.assertIs(losses_told(*ask, losses, value), False)
         self.assertIs(losses_told(*ask, list(losses), (plans, fences)), False)
+        for names in (("z",), ("a", "c", "z"), ("a", "z")):
+            self.assertIs(losses_told(*ask, (names,), (plans, fences[:1] * len(names))), False)
+            self.assertIs(losses_told(*ask, losses + (names,), (plans * 2, fences)), False)
         self.assertIs(losses_told(*ask, lots("ac b"), (plans, fences)), False)
         longer = (lots("ac a - b bc b"),)
         self.assertIs(losses_told(*ask, losses, (longer, fences)), True)

@@ -112,6 +112,29 @@ class FalsePotentialTest(unittest.TestCase):
                 self.check(book, waiting, True)
         self.assertEqual(found, {(True, True), (False, False), (True, False)})
 
+    def test_all_families_of_three_services(self):
+        every = helper.all_lots("abc")
+        for chosen in range(256):
+            states = [state for k, state in enumerate(every) if chosen >> k & 1]
+            self.check_both(Rulebook(lot("abc"), helper.table_of("abc", states)))
+
+    def test_families_of_four_services(self):
+        chance = random.Random(664)
+        for at in range(200):
+            share = (0.3, 0.5, 0.7)[at % 3]
+            states = [state for state in helper.all_lots("abcd") if chance.random() < share]
+            self.check_both(Rulebook(lot("abcd"), helper.table_of("abcd", states)))
+
+    def check_both(self, book):
+        told = false_potential(book)
+        self.assertIs(told is None, unsplit_pair(book) is None)
+        waiting = false_potential(book, with_waits=True)
+        self.assertIs(waiting is None, is_bendable(book))
+        if told is not None:
+            self.check(book, told, False)
+        if waiting is not None:
+            self.check(book, waiting, True)
+
     def test_where_there_is_none(self):
         """The facts: each plain potential is a potential, without waits, or in a bendable rulebook with them."""
         chance = random.Random(663)

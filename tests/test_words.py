@@ -188,7 +188,8 @@ class IsSourcePaperTest(unittest.TestCase):
                 self.assertIs(is_source_paper(FREE, ("sources", odd)), False, repr(odd))
             self.assertIs(is_source_paper(FREE, (odd, lot("a"))), False, repr(odd))
         for value in (["sources", ()], ("sources",), ("sources", (), ()), ("sources", ["a"]), ("way", ["a"]),
-                      ["way", lot("a")], ("ways", lot("a")), ("way", "a"), ("sources", "")):
+                      ["way", lot("a")], ("ways", lot("a")), ("way", "a"), ("sources", ""), ("way", lot("za")),
+                      ("way", lot("az"))):
             self.assertIs(is_source_paper(FREE, value), False)
             self.assertIs(is_source_paper(TORN, value), False)
 
@@ -287,6 +288,8 @@ class PairPaperTest(unittest.TestCase):
             self.assertIs(is_pair_paper(book, good + (odd,)), False, repr(odd))
         for value in (good[:3], ("torn", list("abc"), *good[2:]), ("sources", lot("a")), ("way", lot("a"))):
             self.assertIs(is_pair_paper(book, value), False)
+        self.assertIs(is_pair_paper(FREE, ("sources", ())), True)
+        self.assertIs(is_pair_paper(FREE, ("way", ())), False)
 
 
 if __name__ == "__main__":
