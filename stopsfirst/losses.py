@@ -2,13 +2,12 @@
 
 from stopsfirst.basics import is_sequence, is_tuple_of
 from stopsfirst.bending import bend
-from stopsfirst.changes import (
-    Journey, first_way, goes_between, is_way, limited_table, next_level, reached_set, told_masks,
-)
+from stopsfirst.changes import Journey, first_way, goes_between, is_way, limited_table, next_level
+from stopsfirst.changes import reached_set, told_masks
 from stopsfirst.court import is_bendable
 from stopsfirst.errors import InvalidQuestion, NotBendable
 from stopsfirst.grids import greatest_masks, joined, members, set_of
-from stopsfirst.lots import common, greatest_lots, is_lot, is_part, least_lots, less
+from stopsfirst.lots import common, greatest_lots, is_ascending, is_lot, is_part, least_lots, less
 from stopsfirst.merging import short_plan
 from stopsfirst.plans import plan_masks, start_masks, stop_masks
 
@@ -88,13 +87,6 @@ def is_fence(journey, stops, starts, value):
         return False
     behind = next_level(leads_within(journey, stops, starts), set_of(fence))
     return all([is_under(mask, fence, stops) for mask in members(behind)])
-
-
-def is_ascending(value):
-    """Whether any value is an ascending tuple of unlike lots."""
-    if not isinstance(value, tuple) or not all([is_lot(lot) for lot in value]):
-        return False
-    return all([value[at - 1] < value[at] for at in range(1, len(value))])
 
 
 def is_under(mask, fence, stops):
@@ -184,7 +176,7 @@ def least_hitters(lots):
 
 
 def hitting(hitter, lot):
-    """The lot itself if it shares a name with another one, otherwise all those with one name of it more."""
+    """The hitter itself if it shares a name with the lot, otherwise all hitters with one name of the lot more."""
     if common(hitter, lot) != ():
         return [hitter]
     return [tuple(sorted(hitter + (name,))) for name in lot]

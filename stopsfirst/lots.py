@@ -22,6 +22,13 @@ def is_lot(value):
     return True
 
 
+def is_ascending(value):
+    """Whether any value is an ascending tuple of unlike lots."""
+    if not isinstance(value, tuple) or not all([is_lot(lot) for lot in value]):
+        return False
+    return all([value[at - 1] < value[at] for at in range(1, len(value))])
+
+
 def common(one, other):
     return tuple([name for name in one if name in other])
 

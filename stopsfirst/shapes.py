@@ -92,8 +92,8 @@ def table_book(services, lots):
 def mixed_refuting(cost, a, b, m):
     """A bendable family in which only m is a middle of the joined lot of a and b, and of their common one.
 
-    Neither of these costs more than a and b, so m costs more than both. The common one has two new services besides,
-    so that there can be one of the states that keep the family bendable.
+    Neither of these costs more than a and b, so m costs more than both. The common one gets two new services, so that
+    there is a lot between the two on its side as well; with that lot the family is bendable.
     """
     p, q = [(name,) for name in NEW_NAMES if name not in cost.services][:2]
     top, low = united(a, b), common(a, b)

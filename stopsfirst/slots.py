@@ -5,7 +5,7 @@ from stopsfirst.changes import change_table, leading_into, next_level, rising_ta
 from stopsfirst.court import is_bendable
 from stopsfirst.errors import InvalidBatches, NotBendable
 from stopsfirst.grids import greatest_masks, least_masks, members, set_of, state_masks
-from stopsfirst.losses import is_ascending
+from stopsfirst.lots import is_ascending
 from stopsfirst.merging import merged_plan
 from stopsfirst.plans import slot_masks
 
