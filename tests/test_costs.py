@@ -198,7 +198,7 @@ class EvenTest(unittest.TestCase):
         for at, (services, rules) in enumerate(books):
             states = helper.allowed(services, rules)
             for count in range(many):
-                told = random_costs((seed, at, count).__hash__(), services, 1 + count % 3)
+                told = random_costs(seed * 10000 + at * 10 + count, services, 1 + count % 3)
                 yield Rulebook(services, rules), states, [cost for cost, _ in told], [value for _, value in told]
 
     def test_even_middles_and_uneven_pairs(self):
