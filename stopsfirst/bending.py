@@ -18,6 +18,9 @@ class Bent:
         self._first_stop = grid.lots[steps[0] & ~climbed[0]]
         self._last_stop = grid.lots[climbed[-1] & ~steps[-1]]
 
+    def __eq__(self, other):
+        return isinstance(other, Bent) and self.plan == other.plan and self.climb == other.climb
+
     @property
     def first_stop(self):
         return self._first_stop

@@ -3,6 +3,7 @@
 A table has, for each mask, the set of the states to which a change leads from it.
 """
 
+from stopsfirst.basics import is_integer, is_tuple_of
 from stopsfirst.grids import members, state_masks
 from stopsfirst.plans import batch_masks
 
@@ -101,12 +102,38 @@ def leading_into(table, level, goals):
     return found
 
 
+def leading_set(table, goals, inside):
+    """From where a goal in the set `inside` is reached by way of states of this set, those at the start too."""
+    found = goals & inside
+    level = found
+    while level:
+        level = leading_into(table, inside & ~found, found)
+        found |= level
+    return found
+
+
 def told_masks(grid, value):
     """The masks of the states of a tuple, or None if any value is no tuple of allowed states."""
     if not isinstance(value, tuple):
         return None
     masks = [grid.state_of(state) for state in value]
     return None if None in masks else masks
+
+
+def told_integers(grid, value):
+    """A dict with the integer of each state, or None if any value is not ascending pairs of states and integers."""
+    if not isinstance(value, tuple):
+        return None
+    told = {}
+    before = None
+    for row in value:
+        if not is_tuple_of(row, 2) or grid.state_of(row[0]) is None or not is_integer(row[1]):
+            return None
+        if before is not None and row[0] <= before:
+            return None
+        before = row[0]
+        told[grid.masks[before]] = row[1]
+    return told
 
 
 def is_way(table, masks):

@@ -25,7 +25,7 @@ def told_inside(grid, low, high):
 def has_middle(grid, a, b):
     """The greatest parts come first, since A itself is a middle wherever A | B is allowed."""
     rest = a & b
-    for part in reversed(grid.parts[a & ~b]):
+    for part in reversed(grid.mask_parts[a & ~b]):
         if grid.allowed[b | part] and grid.allowed[rest | part]:
             return True
     return False

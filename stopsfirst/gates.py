@@ -28,7 +28,7 @@ def least_openers(journey, base, goals):
     """The least lots outside the first state and a base with which, and the base, one of the goals is reached."""
     grid = journey.field
     outside = grid.full & ~journey.ends[0] & ~base
-    lots = [lot for lot in grid.parts[outside] if reached_by_lot(journey, base | lot) & goals]
+    lots = [lot for lot in grid.mask_parts[outside] if reached_by_lot(journey, base | lot) & goals]
     return least_lots(grid.in_turn(lots))
 
 

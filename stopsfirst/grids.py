@@ -14,7 +14,7 @@ class Grid:
     def __init__(self, services, rules):
         self.full = (1 << len(services)) - 1
         self.lots = lots_by_mask(services)
-        self.parts = parts_by_mask(len(services))
+        self.mask_parts = parts_by_mask(len(services))
         self.masks = {lot: mask for mask, lot in enumerate(self.lots)}
         self.allowed = [all_allow(rules, lot) for lot in self.lots]
         self.ordered = [self.masks[lot] for lot in sorted(self.lots)]
@@ -139,7 +139,7 @@ def between_masks(grid, low, high):
     """The allowed states that contain one mask and are within another one."""
     if low & ~high:
         return []
-    return [low | part for part in grid.parts[high & ~low] if grid.allowed[low | part]]
+    return [low | part for part in grid.mask_parts[high & ~low] if grid.allowed[low | part]]
 
 
 def within_one(mask, others):

@@ -39,7 +39,7 @@ def upper_middles(book, first, second):
 def middle_parts(grid, a, b):
     """The parts of A - B that give a middle, with A & B; with B they give an upper middle."""
     allowed = grid.allowed
-    return [part for part in grid.parts[a & ~b] if allowed[a & b | part] and allowed[b | part]]
+    return [part for part in grid.mask_parts[a & ~b] if allowed[a & b | part] and allowed[b | part]]
 
 
 def cut_down(book, first, second):

@@ -1,7 +1,7 @@
 """Potentials: numbers for states, which show that no plan is cheaper."""
 
-from stopsfirst.basics import is_integer, is_tuple_of
-from stopsfirst.changes import goes_between, is_way, told_masks
+from stopsfirst.basics import is_tuple_of
+from stopsfirst.changes import goes_between, is_way, told_integers, told_masks
 from stopsfirst.cheapest import Market, cheapest_plan, least_prices
 
 
@@ -23,22 +23,6 @@ def holds_for(market, value):
         if not all([other in told and told[other] <= told[mask] + prices[other] for other in prices]):
             return False
     return True
-
-
-def told_integers(grid, value):
-    """A dict with the integer of each state, or None if any value is not ascending pairs of states and integers."""
-    if not isinstance(value, tuple):
-        return None
-    told = {}
-    before = None
-    for row in value:
-        if not is_tuple_of(row, 2) or grid.state_of(row[0]) is None or not is_integer(row[1]):
-            return None
-        if before is not None and row[0] <= before:
-            return None
-        before = row[0]
-        told[grid.masks[before]] = row[1]
-    return told
 
 
 def cheapest_evidence(book, batches, prices, start, goal):

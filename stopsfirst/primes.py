@@ -24,7 +24,7 @@ def primes_of_grid(grid):
     broken = breakable_rules(grid)
     rules = []
     for union in range(grid.full + 1):
-        for xs in grid.parts[union]:
+        for xs in grid.mask_parts[union]:
             if not broken[(xs, union & ~xs)] and is_prime(broken, xs, union & ~xs):
                 rules.append(("imply", grid.lots[xs], grid.lots[union & ~xs]))
     return tuple(sorted(rules))
@@ -39,7 +39,7 @@ def breakable_rules(grid):
     for union in range(grid.full, -1, -1):
         missing = grid.full & ~union
         extra = missing & -missing
-        for xs in grid.parts[union]:
+        for xs in grid.mask_parts[union]:
             ys = union & ~xs
             if missing == 0:
                 broken[(xs, ys)] = grid.allowed[xs]

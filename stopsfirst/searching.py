@@ -29,7 +29,7 @@ def hopeful_layers(grid, steps, keep_last):
     for started in reversed(start_masks(steps)):
         below = {}
         for mask in layers[-1]:
-            for part in grid.parts[mask & started]:
+            for part in grid.mask_parts[mask & started]:
                 if grid.allowed[mask & ~part]:
                     below[mask & ~part] = True
         layers.append(below)

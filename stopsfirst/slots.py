@@ -96,7 +96,11 @@ def told_plan(book, schedule):
     way = [goal]
     for at in range(len(schedule.tables) - 1, -1, -1):
         way.append(grid.first_in(leading_into(schedule.tables[at], levels[at], 1 << way[-1])))
-    plan = grid.in_turn(list(reversed(way)))
+    return gathered_plan(book, grid.in_turn(list(reversed(way))))
+
+
+def gathered_plan(book, plan):
+    """The plan with its stops moved to its first and its last change, where the rulebook lets it."""
     try:
         return merged_plan(bend(book, plan))
     except NotBendable:

@@ -44,7 +44,7 @@ def covered_by(grid, told):
     covered = [mask in told for mask in range(grid.full + 1)]
     for mask in range(grid.full, -1, -1):
         if covered[mask]:
-            for part in grid.parts[mask]:
+            for part in grid.mask_parts[mask]:
                 covered[part] = True
     return covered
 
@@ -54,7 +54,7 @@ def does_follow(grid, fitting, before, behind):
     for mask in grid.running:
         if behind[mask]:
             continue
-        for part in grid.parts[mask]:
+        for part in grid.mask_parts[mask]:
             if grid.allowed[part] and before[part] and fitting[mask & ~part]:
                 return False
     return True

@@ -5,13 +5,18 @@ import unittest
 
 from stopsfirst import (
     bending, cheapest, climbs, costs, court, dearer, derived, evidence, gates, islands, kinds, lids, longways, losses,
-    lots as lots_module, merging, pairs, plans, potentials, primes, reach, rulebooks, rules, searching, shapes, slots,
-    splitting, stairs, texts, words,
+    lots as lots_module, merging, pairs, plans, potentials, primes, reach, rulebooks, rules, searching, shapes, sheets,
+    slots, splitting, stairs, texts, words,
 )
 from stopsfirst.bending import Bent
 from stopsfirst.costs import Cost
+from stopsfirst.joined import Blocks
+from stopsfirst.others import Contest
 from stopsfirst.prices import Prices
 from stopsfirst.rulebooks import Rulebook
+from stopsfirst.running import House
+from stopsfirst.works import Works
+from tests import more_calls
 from tests.helper import lot, lots
 
 RULES = [["imply", ["b", "a"], []], ["imply", [], ["d", "c"]], ["cap", [["d", 1], ["c", 1]], 2]]
@@ -49,6 +54,7 @@ def calls():
     yield from calls_about_losses()
     yield from calls_about_prices()
     yield from calls_about_slots()
+    yield from more_calls.calls(clash, torn)
 
 
 def calls_about_rules():
@@ -246,7 +252,20 @@ def plainly(value):
         return ("Prices", plainly([value.starts, value.stops, value.waits, value.fee, value.of_change((), lot("ab"))]))
     if isinstance(value, Bent):
         return ("Bent", plainly(value.plan), plainly(value.climb), plainly(value.whole))
+    if type(value) in KEPT:
+        return (type(value).__name__, plainly(kept_by(value)))
     return repr(value)
+
+
+KEPT = {
+    Contest: ("book", "batches", "goals"), Blocks: ("book", "blocks", "factors"), Works: ("current", "made"),
+    House: ("book", "batches", "state", "goal", "history"),
+}
+
+
+def kept_by(value):
+    """What the attributes of an object of the package are."""
+    return tuple(getattr(value, name) for name in KEPT[type(value)])
 
 
 def is_plain(value):
@@ -261,6 +280,8 @@ def is_plain(value):
         return is_plain((value.starts, value.stops, value.waits, value.fee))
     if type(value) is Bent:
         return all(is_plain(told) for told in (value.plan, value.climb, value.first_stop, value.last_stop, value.whole))
+    if type(value) in KEPT:
+        return is_plain(kept_by(value))
     return type(value) in (str, int, bool, type(None))
 
 
@@ -280,12 +301,13 @@ class AgainTest(unittest.TestCase):
             with self.subTest(ask=ask.__name__):
                 before = plainly([args, more])
                 told = ask(*args, **more)
-                self.assertTrue(is_plain(told))
+                self.assertTrue(is_plain(told) or ask in (sheets.sheet, sheets.kept_sheets))
                 self.assertEqual(plainly([args, more]), before)
                 first = plainly(told)
                 self.assertEqual(plainly(ask(*args, **more)), first)
                 self.assertEqual(plainly([args, more]), before)
-                spoil([args[1:] if isinstance(args[0], (Rulebook, Bent, Cost, Prices)) else args, list(more.values())])
+                held = (Rulebook, Bent, Cost, Prices, *KEPT)
+                spoil([args[1:] if isinstance(args[0], held) else args, list(more.values())])
                 self.assertEqual(plainly(told), first)
                 if isinstance(told, Rulebook):
                     self.assertEqual(told.states(), Rulebook(told.services, told.rules).states())

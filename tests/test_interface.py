@@ -147,9 +147,80 @@ INTERFACE = {
         "barring_lots(book, start, goal, slots)", "losses_borne(book, start, goal, slots)",
         "first_time(book, start, goal, cycle, begin)",
     ),
+    "windows": (
+        "marked_slots(book, marks, many)", "least_marks(book, start, goal, many)",
+        "marks_back(book, goal, marks, many)", "marks_on(book, start, marks, many)",
+        "least_batches(book, start, goal)", "lots_up_to(book, weights, limit)",
+        "weight_ladder(book, start, goal, weights)", "weight_plan(book, start, goal, weights, many)",
+    ),
+    "others": (
+        "class Contest(book, batches, goals)", "Contest.needed(self, state)", "Contest.table(self)",
+        "Contest.reply(self, state, left)", "Contest.__eq__(self, other)", "least_states(book)",
+    ),
+    "safe": (
+        "safe_distance(contest, state, left=None)", "safe_answer(contest, state, left=None)", "stuck_least(contest)",
+        "climb_above(contest, state)", "safe_states(contest)", "safe_gap(contest)", "bend_safely(contest, plan)",
+        "safety_evidence(contest, state)", "is_safety_evidence(contest, state, value)",
+    ),
+    "joined": (
+        "side_by_side(one, other)", "mix(names, one, other)", "unmixed(book, names)", "free_lots(book)",
+        "class Blocks(book)", "Blocks.parts(self, state)", "Blocks.put(self, parts)", "Blocks.part_book(self, at)",
+        "Blocks.witnesses(self)", "Blocks.__eq__(self, other)", "blocks_hold(book, blocks, factors, witnesses)",
+        "block_plan(book, start, goal, batches)", "block_stuck(book, start, goal, batches)",
+        "stuck_holds(book, start, goal, batches, paper)",
+    ),
+    "hidden": (
+        "hidden(book, names)", "lifts(book, names, lot)", "freed(book, names, batches)",
+        "outside(book, names, batches)", "lifted(book, names, plan, start, goal)", "fixed(book, running, resting)",
+        "copied(book, name, copy)", "guarded(book, name, guard)", "kernel(book)", "is_kernel(book, paper)",
+    ),
+    "mending": (
+        "mended(book, mend)", "remedies(book, start, goal, sort, keep)", "fewest_mend(book, sort, keep, most)",
+        "least_mends(book, sort, keep, most)",
+    ),
+    "trees": ("mend_tree(book, sort, keep, most)", "tree_holds(book, sort, keep, most, value)"),
+    "menus": (
+        "rules_mended(book, menu, mend)", "fewest_rules(book, menu, most)", "rules_tree(book, menu, most)",
+        "rules_tree_holds(book, menu, most, value)",
+    ),
+    "pins": ("pinned(book, on, off)", "pin_needs(book, keep)", "least_pins(book, keep)", "bad_between(book, keep)"),
+    "turned": (
+        "sides(book, turned, first, second)", "turned_fault(book, turned, plan, batches=None)",
+        "turned_book(book, turned)", "turned_middles(book, turned, first, second)", "turned_locked(book, turned)",
+        "bends(book, turned)", "one_way(book, turned, plan)",
+    ),
+    "turnings": (
+        "turnings(book)", "every_turning(book)", "is_turning_paper(book, value)", "sorted_plan(book, plan)",
+    ),
+    "counting": (
+        "strict_counts(book, batches, first, second)", "climb_at(book, batches, first, second, number)",
+        "climb_number(book, batches, first, second, climb)", "weak_count(book, batches, first, second, changes)",
+        "bent_count(book, batches, first, second, changes)", "balance(book, first, second)",
+    ),
+    "exchanges": (
+        "single_orders(book, first, second)", "order_paper(book, first, second)",
+        "exchange_row(book, first, one, other)", "is_order_paper(book, first, second, value)",
+    ),
+    "works": (
+        "class Works(book)", "Works.__len__(self)", "Works.put(self, rule)", "Works.drop(self, at)",
+        "Works.swap(self, at, rule)", "Works.undo(self)", "Works.within(self, work)", "Works.verdict(self)",
+        "Works.trial(self, rules)", "Works.__eq__(self, other)",
+    ),
+    "running": (
+        "class House(book, state, batches)", "House.left(self)", "House.aim(self, goal)", "House.others(self, state)",
+        "House.step(self)", "House.run(self)", "House.__eq__(self, other)",
+    ),
+    "sheets": (
+        "sheet_holds(book, value)", "sheet(book, kind, question)", "wrong_sheets(book, values)",
+        "kept_sheets(works, values)",
+    ),
+    "desk": ("class Desk()", "Desk.say(self, command)", "Desk.__eq__(self, other)"),
 }
 
-PROPERTIES = {"bending": ("Bent.first_stop", "Bent.last_stop", "Bent.whole")}
+PROPERTIES = {
+    "bending": ("Bent.first_stop", "Bent.last_stop", "Bent.whole"),
+    "works": ("Works.current", "Works.made"),
+}
 
 
 class InterfaceTest(unittest.TestCase):
