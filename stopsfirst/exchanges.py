@@ -121,7 +121,7 @@ def order_paper(book, first, second):
     pair = first_lacking(orders)
     if pair is not None:
         return ("lacks", *pair)
-    return ("pairs", tuple([(x, y) for x in orders.names for y in orders.names if x != y and always(orders, x, y)]))
+    return ("pairs", tuple([(x, y) for x in orders.names for y in orders.names if always(orders, x, y)]))
 
 
 def first_lacking(orders):

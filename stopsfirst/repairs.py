@@ -14,7 +14,10 @@ NOTHING = (0, 0)
 
 
 def has_middle_in(grid, family, a, b):
-    """Whether two states of a set have a middle if just the states of this set are allowed."""
+    """Whether two states of a set have a middle if just the states of this set are allowed.
+
+    Wherever the joined state is one of them, the first state itself is a middle; so this is looked at first.
+    """
     if family >> (a | b) & 1:
         return True
     for part in grid.mask_parts[a & ~b]:

@@ -153,7 +153,7 @@ def shows_safe(contest, numbers, mask):
 def shows_held(contest, numbers, mask):
     grid = contest.field
     number = numbers[mask]
-    if any([other in numbers and numbers[other] < number for other in members(grid.below[mask]) if other != mask]):
+    if any([other in numbers and numbers[other] < number for other in members(grid.below[mask])]):
         return True
     if contest.goal_set >> mask & 1:
         return False

@@ -44,8 +44,6 @@ class Works:
         rules = self._book.rules
         if not is_index(at, rules):
             raise Refused(0)
-        if kept_rule(self._book.services, rule) is None:
-            raise InvalidRule(at)
         return self.change_to(Rulebook(self._book.services, rules[:at] + (rule,) + rules[at + 1:]))
 
     def change_to(self, book):

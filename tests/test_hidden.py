@@ -268,6 +268,22 @@ class KernelTest(unittest.TestCase):
             self.assertIs(is_kernel(TORN, paper), False)
         self.assertIs(is_kernel(TORN, ((), (), (), "b", lot("a"))), True)
 
+    def test_each_service_stands_in_just_one_place(self):
+        book = Rulebook(lot("abc"), [("table", lot("ab"), lots("a b"))])
+        for good in ((lot("c"), (), ()), ((), lot("c"), ()), ((), (), lot("c"))):
+            self.assertIs(is_kernel(book, (*good, "a", lot("b"))), True)
+        for wrong in (((), (), ()), (lot("c"), (), lot("c")), (lot("c"), lot("c"), ()), ((), lot("c"), lot("c"))):
+            self.assertIs(is_kernel(book, (*wrong, "a", lot("b"))), False)
+
+    def test_kernels_by_hand(self):
+        for told, right in (("ab c", ((), lot("d"), lot("b"), "a", lot("c"))),
+                            ("abc d", ((), (), lot("bc"), "a", lot("d"))),
+                            ("ac bcd", (lot("c"), (), (), "a", lot("bd"))),
+                            ("b d", ((), lot("ac"), (), "b", lot("d")))):
+            book = Rulebook(lot("abcd"), [("table", lot("abcd"), lots(told))])
+            self.assertEqual(kernel(book=book), right)
+            self.assertIs(is_kernel(book, right), True)
+
     def test_lifts_fit(self):
         """Where what is hidden is freed, one change leads from each lift to each other one."""
         free = freed(CLASH, lot("bc"), ())

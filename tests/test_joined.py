@@ -238,6 +238,8 @@ class HoldTest(unittest.TestCase):
                         (lot("b"), a, b), (names, lot("ab"), b), (names, a, lot("abc")), (names, a, None)):
                 spoilt = good[2][:first] + (odd,) + good[2][first + 1:]
                 self.assertIs(blocks_hold(CLASH, good[0], good[1], spoilt), False, repr(odd))
+        more = (((),) + good[0], (((),),) + good[1], good[2])
+        self.assertIs(blocks_hold(CLASH, *more), False)
         never = Rulebook(lot("ab"), [("imply", (), ())])
         self.assertIs(blocks_hold(never, lots("a b"), ((), ()), ()), False)
         self.assertIs(blocks_hold(CLASH, lots("a b cd"), (lots("- a"), lots("- b"), good[1][1]), good[2]), False)

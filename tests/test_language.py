@@ -148,6 +148,36 @@ class LanguageTest(unittest.TestCase):
             for place in places:
                 self.assertFalse([node for node in ast.walk(place) if isinstance(node, ast.Starred)], ast.unparse(place))
 
+    def test_stars_in_calls(self):
+        """[L7] Behind a star in a call stand only names and attributes off a name."""
+        for path in self.each_file():
+            for node in walk(path, ast.Call):
+                self.assertTrue(all(word.arg is not None for word in node.keywords))
+                for told in [told.value for told in node.args if isinstance(told, ast.Starred)]:
+                    plain = isinstance(told, ast.Name) or isinstance(told, ast.Attribute) and isinstance(told.value, ast.Name)
+                    self.assertTrue(plain, ast.unparse(node))
+
+    def test_finally(self):
+        """[L6] What is read in a `finally` is assigned before, and nothing but plain assignments stands there."""
+        for path in self.each_file():
+            for node in walk(path, ast.Try):
+                for row in node.finalbody:
+                    self.assertIsInstance(row, ast.Assign)
+                    for told in ast.walk(row):
+                        self.assertIsInstance(told, (ast.Assign, ast.Tuple, ast.Attribute, ast.Name, ast.Load, ast.Store))
+
+    def test_words_in_strings(self):
+        """[L17], [L27] Words that do not occur in strings, docstrings left out, and no sign that formats."""
+        barred = {"type", "typing", "enum", "Enum", "Flag", "Generic", "Protocol", "ABC", "namedtuple", "overload"}
+        for path in self.each_file():
+            tree = tree_of(path)
+            docs = {id(node.body[0].value) for node in ast.walk(tree)
+                    if isinstance(node, (ast.Module, ast.ClassDef, ast.FunctionDef)) and isinstance(node.body[0], ast.Expr)}
+            for node in ast.walk(tree):
+                if isinstance(node, ast.Constant) and isinstance(node.value, str) and id(node) not in docs:
+                    self.assertNotIn("%", node.value)
+                    self.assertFalse(barred & set(node.value.split()), node.value)
+
     def test_sets(self):
         for path in self.each_file():
             parents = with_parents(tree_of(path))

@@ -64,6 +64,30 @@ class EqualTest(unittest.TestCase):
         self.assertTrue(Prices([("a", 1), ("b", 0)], []) == Prices((["a", 1],), ()))
         self.assertFalse(Prices([("a", 1)], []) == Prices([("a", 1)], [], fee=1))
 
+    def test_equal_parts(self):
+        for one, other in zip(objects(), objects()):
+            self.assertTrue(one == other, type(one))
+        bent = Bent(CLASH, lots("a b"), lots("- b"))
+        self.assertFalse(bent == Bent(CLASH, lots("a bc"), lots("- bc")))
+        self.assertFalse(Bent(CLASH, lots("ac c"), lots("c c")) == Bent(CLASH, lots("ac c"), lots("ac ac")))
+        contest = Contest(CLASH, (), lots("a"))
+        for other in (Contest(Rulebook(lot("abc"), []), (), lots("a")), Contest(CLASH, None, lots("a")),
+                      Contest(CLASH, (), lots("a b"))):
+            self.assertFalse(contest == other)
+        self.assertFalse(Blocks(CLASH) == Blocks(Rulebook(lot("abc"), [])))
+        self.assertFalse(Works(CLASH) == Works(Rulebook(lot("abc"), [])))
+        house = House(CLASH, lot("a"), ())
+        for other in (House(Rulebook(lot("abc"), []), lot("a"), ()), House(CLASH, lot("a"), None),
+                      House(CLASH, lot("b"), ())):
+            self.assertFalse(house == other)
+        other = House(CLASH, lot("a"), ())
+        other.aim(())
+        self.assertFalse(house == other)
+        for command in ("house -", "batches b", "rule never a"):
+            told = busy_desk()
+            told.say(command)
+            self.assertFalse(told == busy_desk(), command)
+
     def test_objects_with_unlike_pasts(self):
         one, other = Works(CLASH), Works(CLASH)
         self.assertTrue(one == other)

@@ -292,6 +292,8 @@ class EvidenceTest(unittest.TestCase):
             for odd in odds:
                 self.assertIs(is_safety_evidence(contest, start, odd), False, repr(odd))
                 self.assertIs(is_safety_evidence(contest, start, (word, odd)), False, repr(odd))
+            below = tuple((state, -1) for state, number in rows if number == 0)
+            self.assertIs(is_safety_evidence(contest, below[0][0], (word, below)), False)
             for at, (state, number) in enumerate(rows):
                 for row in ([state, number], (state,), (state, number, 0), (list(state), number), (state, bool(number)),
                             (state, float(number)), (state, str(number)), (state, -1), (state, None), (Weird(), number),
